@@ -48,6 +48,18 @@ func told(s string, at, below, size, end int, lack, bad api.Errno) (string, int,
 	return s[at:at+1+c] + rest, next, api.OK
 }
 
+// open: does a name not end within the bytes that are ahead?
+func open(s string) bool {
+	if s == "" || s[0] > 191 {
+		return len(s) < 2
+	}
+	size := int(s[0])
+	if size == 0 || size > 63 {
+		return false
+	}
+	return size >= len(s) || open(s[1+size:])
+}
+
 // cursor goes through a message's bytes and, where something is wrong, keeps the first error and stays there.
 type cursor struct {
 	s       string
@@ -82,6 +94,11 @@ func (c *cursor) num(n int) uint32 {
 
 func (c *cursor) name(bad api.Errno) string {
 	if c.e != api.OK {
+		return ""
+	}
+	// A cursor that lacks ErrData goes through a record's data.
+	if c.lack == api.ErrData && open(c.s[c.at:c.end]) {
+		c.wrong(api.ErrData)
 		return ""
 	}
 	n, next, e := told(c.s, c.at, c.at, 0, c.end, c.lack, bad)
@@ -245,8 +262,8 @@ func (m *maker) name(at int, pointers bool) string {
 	for range m.Intn(4) {
 		s += m.any("\x01a", "\x02bc", "\x03www", label(1+m.Intn(63)))
 	}
-	if m.Intn(400) == 0 {
-		s += labels(63, 63, 60+m.Intn(4))
+	if m.Intn(200) == 0 {
+		s += labels(63, 63, 60+m.Intn(4), 1+m.Intn(63))
 	}
 	end := root
 	if pointers && len(m.places) > 0 && m.Intn(2) == 0 {
@@ -285,6 +302,14 @@ func (m *maker) data(kind uint16, at int) string {
 	return zs(m.Intn(9))
 }
 
+// cut is data that mostly is whole.
+func (m *maker) cut(data string) string {
+	if m.Intn(20) == 0 {
+		return data[:len(data)-m.Intn(min(len(data), 30)+1)]
+	}
+	return data
+}
+
 // message is one.
 func (m *maker) message() string {
 	m.b.Reset()
@@ -301,7 +326,7 @@ func (m *maker) message() string {
 			ttl = 1<<31 + ttl
 		}
 		name := m.name(m.b.Len(), true)
-		m.b.WriteString(record(name, kind, ttl, m.data(kind, m.b.Len()+len(name)+10)))
+		m.b.WriteString(record(name, kind, ttl, m.cut(m.data(kind, m.b.Len()+len(name)+10))))
 	}
 	return m.b.String()
 }

@@ -250,29 +250,72 @@ func TestNamesEndWithinData(t *testing.T) {
 	}
 }
 
+// tooLong are labels with which a name would be too long.
+func tooLong() []string {
+	full := labels(63, 63, 63, 61)
+	return []string{labels(63, 63, 63, 62), labels(63, 63, 63, 63), full + "\x01a", full + labels(63, 63, 1), strings.Repeat("\x01a", 128), strings.Repeat("\x01a", 15000)}
+}
+
 func TestNamesTooLongInData(t *testing.T) {
-	full, over := labels(63, 63, 63, 61), labels(63, 63, 63, 62)
 	for _, p := range spots() {
-		// Told at its label, whatever stands behind it, or doesn't.
-		for _, behind := range []string{"", root, "\x40", "\xc0", "\xff\xff", "\x05", root + "zz"} {
-			noData(t, p.kind, p.ahead+over+behind, api.ErrName)
-			noData(t, p.kind, p.ahead+over+behind+p.behind, api.ErrName)
-			noData(t, p.kind, p.ahead+full+"\x01a"+behind, api.ErrName)
+		for _, over := range tooLong() {
+			// It ends within the data: told at its label, whatever ends it, and stands behind that.
+			for _, ends := range []string{root, "\x40", "\x7f", "\x80", "\xbf", "\xc0\x0c", "\xff\xff", "\x01a" + root, label(63) + "\x40", label(63) + "\xc0\x00"} {
+				noData(t, p.kind, p.ahead+over+ends, api.ErrName)
+				noData(t, p.kind, p.ahead+over+ends+p.behind, api.ErrName)
+				noData(t, p.kind, p.ahead+over+ends+"zz", api.ErrName)
+			}
+			// It doesn't: that is told first, whatever stands behind the data.
+			for _, open := range []string{"", "\x01a", label(63), label(9) + label(2), "\x05", "\x01a\x05zzzz", "\x3f" + zs(62), "\x3f", "\xc0", "\xff", "\x01a\xc0"} {
+				s := alone(p.kind, p.ahead+over+open)
+				noMessage(t, s, api.ErrData)
+				for _, behind := range []string{root, "\x40", "\x0c", "z" + root, to(begin), a, record(root, 99, hour, "")} {
+					noMessage(t, s+behind, api.ErrData)
+				}
+			}
 		}
-		// A label that isn't in the data as a whole is told as that, first of all.
-		noMessage(t, alone(p.kind, p.ahead+over[:len(over)-1])+"z\x00", api.ErrData)
-		noMessage(t, alone(p.kind, p.ahead+full+"\x01")+a, api.ErrData)
-		noMessage(t, alone(p.kind, p.ahead+full)+a, api.ErrData)
+		// Nor where the label itself isn't in the data as a whole, or the name isn't too long yet.
+		full := labels(63, 63, 63, 61)
+		for _, open := range []string{tooLong()[0][:254], full + "\x01", full, full + "\xc0"} {
+			noData(t, p.kind, p.ahead+open, api.ErrData)
+			noMessage(t, alone(p.kind, p.ahead+open)+a, api.ErrData)
+			noMessage(t, alone(p.kind, p.ahead+open)+"z"+root, api.ErrData)
+		}
 		// What stands in front of it.
-		noData(t, p.kind, p.ahead+"\x01a\x40"+over, api.ErrLabel)
+		noData(t, p.kind, p.ahead+"\x01a\x40"+tooLong()[0], api.ErrLabel)
+		noData(t, p.kind, p.ahead+"\x40"+tooLong()[0], api.ErrLabel)
+	}
+	for _, p := range pointing() {
+		noData(t, p.kind, p.ahead+"\xff\xff"+tooLong()[0], api.ErrPointer)
+	}
+	for _, over := range tooLong() {
+		// Of SOA's two names the first that is wrong is told.
+		noData(t, api.TypeSOA, over+root+over, api.ErrName)
+		noData(t, api.TypeSOA, over+to(0)+"\x05", api.ErrName)
+		noData(t, api.TypeSOA, to(9000)+over, api.ErrPointer)
+		noData(t, api.TypeSOA, "\x40"+over, api.ErrLabel)
+		noData(t, api.TypeSOA, root+over, api.ErrData)
+		// Ahead of its record's TTL.
+		noMessage(t, numbers(0, 1, 0, 0)+record(root, api.TypeNS, 1<<31, over), api.ErrData)
+		noMessage(t, numbers(0, 1, 0, 0)+record(root, api.TypeNS, 1<<31, over+root), api.ErrName)
+		// Outside of data it is told at its label, whether it ends or not.
+		for _, open := range []string{"", "\x05", "\xc0", "\x01a", "\x40", root} {
+			noMessage(t, numbers(1, 0, 0, 0)+over+open, api.ErrName)
+			noMessage(t, numbers(0, 1, 0, 0)+over+open, api.ErrName)
+		}
+		// So, too, where a pointer leads: the name ended within the data with it.
+		for _, p := range pointing() {
+			noMessage(t, numbers(0, 2, 0, 0)+record(root, 99, hour, over)+record(root, p.kind, hour, p.ahead+to(dataAt)+p.behind), api.ErrName)
+			noMessage(t, numbers(0, 2, 0, 0)+record(root, 99, hour, over)+record(root, p.kind, hour, p.ahead+"\x01a"+to(dataAt)+p.behind), api.ErrName)
+		}
 	}
 	// By a pointer: 255 bytes, and 256.
 	for _, p := range pointing() {
-		s := numbers(1, 1, 0, 0) + asked(full[64:]+root) + record(root, p.kind, hour, p.ahead+label(63)+to(begin)+p.behind)
-		if m, e := dnsread.Read(s); e != api.OK || !slices.Contains(m.Answers[0].Names, full+root) {
+		s := numbers(1, 1, 0, 0) + asked(labels(63, 63, 61)+root) + record(root, p.kind, hour, p.ahead+label(63)+to(begin)+p.behind)
+		if m, e := dnsread.Read(s); e != api.OK || !slices.Contains(m.Answers[0].Names, longest()) {
 			t.Errorf("type %d: %d", p.kind, e)
 		}
-		noMessage(t, numbers(1, 1, 0, 0)+asked(over[64:]+root)+record(root, p.kind, hour, p.ahead+label(63)+to(begin)+p.behind), api.ErrName)
+		noMessage(t, numbers(1, 1, 0, 0)+asked(labels(63, 63, 62)+root)+record(root, p.kind, hour, p.ahead+label(63)+to(begin)+p.behind), api.ErrName)
 	}
 }
 
@@ -399,12 +442,12 @@ func TestDataThatTheMessageLacks(t *testing.T) {
 	}
 }
 
-// wrongNames are bytes in a name's place, none of which may be one there, with their errors; what stands behind them doesn't matter.
+// wrongNames are bytes in a name's place that end it, none of which may be one there, with their errors; what stands behind them doesn't matter.
 var wrongNames = []struct {
 	s string
 	e api.Errno
 }{
-	{"\x40", api.ErrLabel}, {"\xbf", api.ErrLabel}, {"\x01a\x80", api.ErrLabel}, {"\xff\xff", api.ErrPointer}, {"\x01a\xff\xff", api.ErrPointer}, {labels(63, 63, 63, 62), api.ErrName}, {labels(63, 63, 63, 61, 1), api.ErrName},
+	{"\x40", api.ErrLabel}, {"\xbf", api.ErrLabel}, {"\x01a\x80", api.ErrLabel}, {"\xff\xff", api.ErrPointer}, {"\x01a\xff\xff", api.ErrPointer}, {labels(63, 63, 63, 62) + root, api.ErrName}, {labels(63, 63, 63, 61, 1) + root, api.ErrName},
 }
 
 func TestEachErrorByItself(t *testing.T) {
